@@ -1,0 +1,1 @@
+"""Codes made of products of letters, and what their choices tell."""

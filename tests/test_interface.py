@@ -1,0 +1,108 @@
+"""The head of the interface: names, arguments, defaults, and where each function and class is defined."""
+
+import importlib
+import inspect
+import unittest
+
+FUNCTIONS = {
+    "heaps": (
+        "is_whole(thing, low, high)",
+        "check_letters(letters)",
+        "check_letter(letters, letter)",
+        "check_bit(bit)",
+        "check_number(number, most)",
+        "check_heap(letters, heap)",
+        "check_heaps(letters, heaps)",
+        "check_places(letters, places)",
+        "letters_of(heap)",
+        "count_ones(number)",
+        "parity_of(number)",
+        "all_letters(letters)",
+        "complement_of(letters, heap)",
+        "all_heaps(letters)",
+    ),
+    "words": (
+        "check_word(letters, word)",
+        "full_word(letters)",
+        "word_of(letters, heaps)",
+        "heap_word(letters, heap)",
+        "heaps_of(letters, word)",
+        "places_of(letters, word)",
+        "marked_word(letters, places)",
+        "weight_of(letters, word)",
+        "value_at(letters, word, place)",
+        "meets_evenly(letters, word, other)",
+        "check_order(letters, order)",
+        "renamed_word(letters, word, order)",
+    ),
+    "choices": (
+        "check_same(letters, other_letters)",
+        "check_some(choice)",
+        "holds(choice, word)",
+        "word_at(choice, number)",
+        "number_of(choice, word)",
+        "all_words(choice)",
+        "renamed_choice(choice, order)",
+    ),
+    "choicetext": (
+        "heap_text(heap)",
+        "heap_from_text(letters, text)",
+        "choice_text(choice)",
+        "choice_from_text(text)",
+    ),
+}
+
+GENERATORS = ("all_words",)
+
+# For each class: its parameters, its methods with their parameters, its properties.
+CLASSES = {
+    "choices": {
+        "Choice": (
+            "(letters, heaps)",
+            (
+                "with_heap(self, heap)",
+                "without_heap(self, heap)",
+                "joined(self, other)",
+                "common(self, other)",
+                "__contains__(self, heap)",
+                "__iter__(self)",
+                "__eq__(self, other)",
+            ),
+            ("size", "top_size"),
+        ),
+    },
+}
+
+
+def told(function):
+    """A function as the interface writes it."""
+    return function.__name__ + str(inspect.signature(function))
+
+
+class Interface(unittest.TestCase):
+    def test_functions(self):
+        for file, functions in FUNCTIONS.items():
+            module = importlib.import_module("lowerwords." + file)
+            for due in functions:
+                with self.subTest(due):
+                    function = vars(module)[due[:due.index("(")]]
+                    self.assertEqual(told(function), due)
+                    self.assertEqual(function.__module__, "lowerwords." + file)
+                    self.assertEqual(inspect.isgeneratorfunction(function), function.__name__ in GENERATORS)
+
+    def test_classes(self):
+        for file, classes in CLASSES.items():
+            module = importlib.import_module("lowerwords." + file)
+            for name, (parameters, methods, properties) in classes.items():
+                made = vars(module)[name]
+                with self.subTest(name):
+                    self.assertEqual(made.__module__, "lowerwords." + file)
+                    self.assertEqual(str(inspect.signature(made)), parameters)
+                    for due in methods:
+                        self.assertEqual(told(vars(made)[due[:due.index("(")]]), due)
+                    for due in properties:
+                        self.assertIsInstance(vars(made)[due], property)
+
+
+if __name__ == "__main__":
+    unittest.main()
