@@ -34,6 +34,13 @@ class HeapTexts(Case):
             for thing in wrong + NO_TEXTS:
                 self.assert_error(BadText, {"index": 0}, heap_from_text, letters, thing)
 
+    def test_what_only_says_that_it_equals_a_text_is_none(self):
+        class Equal:
+            def __eq__(self, other):
+                return True
+
+        self.assert_error(BadText, {"index": 0}, heap_from_text, 3, Equal())
+
     def test_bad_letters_come_first(self):
         for letters in BAD_SIZES:
             for thing in ("-", "x", None):

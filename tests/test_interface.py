@@ -50,9 +50,47 @@ FUNCTIONS = {
         "choice_text(choice)",
         "choice_from_text(text)",
     ),
+    "wordtext": (
+        "word_text(letters, word)",
+        "word_from_text(letters, text)",
+    ),
+    "below": (
+        "is_below(heap, other)",
+        "descents_of(heap)",
+        "all_below(heap)",
+        "way_down(heap, other)",
+        "bar_letter(heap, other)",
+    ),
+    "falling": (
+        "closed_gap(choice)",
+        "first_gap(choice)",
+        "is_closed(choice)",
+        "is_falling(choice)",
+        "check_closed(choice)",
+        "check_falling(choice)",
+        "closed_by(choice)",
+        "closure_of(choice)",
+        "heads_of(choice)",
+    ),
+    "substitutions": (
+        "one_step(letters, letter, lower=None)",
+        "all_steps(letters)",
+        "steps_of(substitution)",
+        "triangular_at(letters, number)",
+        "triangular_number(substitution)",
+        "all_triangular(letters)",
+    ),
+    "keeping": (
+        "kept_by(choice, substitution)",
+        "kept_by_all(choice)",
+    ),
+    "substitutiontext": (
+        "substitution_text(substitution)",
+        "substitution_from_text(text)",
+    ),
 }
 
-GENERATORS = ("all_words",)
+GENERATORS = ("all_words", "all_triangular")
 
 # For each class: its parameters, its methods with their parameters, its properties.
 CLASSES = {
@@ -70,6 +108,17 @@ CLASSES = {
             ),
             ("size", "top_size"),
         ),
+    },
+    "substitutions": {
+        "Substitution": (
+            "(letters, rows)",
+            ("place_of(self, place)", "moved(self, word)", "after(self, other)", "back(self)", "__eq__(self, other)"),
+            ("is_triangular",),
+        ),
+    },
+    "keeping": {
+        "Leaves": ("(heap, word)", ("__eq__(self, other)",), ()),
+        "LeavesBy": ("(substitution, heap, word)", ("__eq__(self, other)",), ()),
     },
 }
 
