@@ -40,6 +40,27 @@ class Case(unittest.TestCase):
         self.assertIs(one != other, True)
 
 
+    def assert_result(self, made, names, others=()):
+        """The class keeps what it is given under these names, checks nothing, and compares by all of them."""
+        things = [object(), [1], None, {}][:len(names)]
+        for result in (made(*things), made(**dict(zip(names, things)))):
+            self.assertEqual(list(vars(result)), list(names))
+            for name, thing in zip(names, things):
+                self.assertIs(getattr(result, name), thing)
+        for wrong in (things[:-1], things + [0]):
+            with self.assertRaises(TypeError):
+                made(*wrong)
+        numbers = list(range(len(names)))
+        one = made(*numbers)
+        self.assert_alike(one, made(*numbers))
+        for index in range(len(names)):
+            changed = list(numbers)
+            changed[index] = 9
+            self.assert_unlike(one, made(*changed))
+        for other in (tuple(numbers), numbers, None, 0, *[other(*numbers) for other in others]):
+            self.assert_unlike(one, other)
+
+
 def chance(seed):
     """A source of numbers that is the same in each run."""
     return random.Random(seed)
@@ -126,3 +147,51 @@ def all_below_by_descents(heap):
 def all_within(heap):
     """All heaps that come of a heap by leaving out letters, as a set."""
     return {part for part in range(heap + 1) if letter_set(part) <= letter_set(heap)}
+
+
+def all_sums(words):
+    """All sums of some of the words, as a set."""
+    sums = {0}
+    for word in words:
+        sums |= {word ^ other for other in sums}
+    return sums
+
+
+def weight(number):
+    """How many bits of a number are 1."""
+    return bin(number).count("1")
+
+
+def rows_by_sums(sums):
+    """The reduced rows of a set of all sums: those with a top bit and otherwise no bit that is the top bit of a sum."""
+    tops = sum({1 << (word.bit_length() - 1) for word in sums if word})
+    rows = [word for word in sums if weight(word & tops) == 1 and (word & tops).bit_length() == word.bit_length()]
+    return tuple(sorted(rows, reverse=True))
+
+
+def falling_sets(letters):
+    """All sets of heaps of falling choices, as ascending tuples, the empty one first."""
+    found = [()]
+    for heaps in found:
+        for heap in range(2 ** letters):
+            if heap not in heaps and descents_by_sets(heap) <= set(heaps):
+                new = tuple(sorted(heaps + (heap,)))
+                if new not in found:
+                    found.append(new)
+    return found
+
+
+def is_closed_set(heaps):
+    """Whether with a heap every heap is there that comes of it by leaving out letters."""
+    return all(all_within(heap) <= set(heaps) for heap in heaps)
+
+
+def is_falling_set(heaps):
+    """Whether with a heap every heap below it is there."""
+    return all(descents_by_sets(heap) <= set(heaps) for heap in heaps)
+
+
+def subset_sets(letters):
+    """All sets of heaps of these letters, as ascending tuples."""
+    for number in range(2 ** 2 ** letters):
+        yield tuple(heap for heap in range(2 ** letters) if number >> heap & 1)
