@@ -88,9 +88,96 @@ FUNCTIONS = {
         "substitution_text(substitution)",
         "substitution_from_text(text)",
     ),
+    "reduced": (
+        "check_words(words)",
+        "reduced_rows(words)",
+        "span_size(words)",
+        "remainder_of(words, word)",
+        "in_span(words, word)",
+        "sums_to(words, word)",
+        "sums_within(words, allowed)",
+        "even_rows(letters, words)",
+    ),
+    "rests": (
+        "rest_rows(choice)",
+        "rest_of(choice)",
+        "rest_part(choice)",
+        "rest_gap(choice)",
+        "meets_rest(choice, word)",
+        "within_rest(choice)",
+        "own_rest(choice)",
+        "shared_rows(choice)",
+    ),
+    "grains": ("grain_of(choice)",),
+    "flats": (
+        "check_forms(letters, forms)",
+        "form_word(letters, form)",
+        "reduced_forms(letters, forms)",
+        "flat_word(letters, forms)",
+        "leading_heap(letters, forms)",
+        "forms_of(letters, word)",
+        "flat_over(letters, places)",
+    ),
+    "leasts": (
+        "least_weight(choice)",
+        "is_least(choice, word)",
+        "under_count(letters, heap)",
+        "least_count(choice)",
+        "least_forms(choice, number)",
+        "least_at(choice, number)",
+        "least_number(choice, word)",
+        "all_least(choice)",
+    ),
+    "counts": (
+        "made_by_least(choice)",
+        "unmade_heap(choice)",
+        "least_sum(choice, heap)",
+        "sum_fault(choice, heap, words)",
+        "weights_row(choice)",
+    ),
+    "blocks": (
+        "exchanged_letters(letters, letter)",
+        "exchange_kept(choice, letter)",
+        "blocks_of(choice)",
+        "check_blocks(letters, blocks)",
+        "kept_closure(choice, blocks)",
+        "kept_core(choice, blocks)",
+    ),
+    "groups": (
+        "block_group_size(letters, blocks)",
+        "group_size(choice)",
+        "in_group(choice, substitution)",
+        "outside_group(choice, substitution)",
+        "member_at(choice, number)",
+        "member_number(choice, substitution)",
+        "all_members(choice)",
+    ),
+    "orbits": (
+        "orbit_of(letters, word)",
+        "least_of_orbit(letters, word)",
+        "stays_count(letters, word)",
+        "moves_between(letters, word, other)",
+        "least_orbits(choice)",
+        "member_between(choice, word, other)",
+    ),
+    "votes": (
+        "ballots_of(letters, heap)",
+        "votes_for(letters, word, heap)",
+        "spoilt_votes(letters, places, heap)",
+        "split_votes(letters, word, heap)",
+    ),
+    "readings": (
+        "reads_sure(choice)",
+        "read_steps(choice, word)",
+        "read_votes(choice, word, *, most=None)",
+        "told_fault(choice, word, claimed)",
+        "read_count(choice, *, most=None)",
+        "nearest_words(choice, word)",
+        "two_near(choice, many=0)",
+    ),
 }
 
-GENERATORS = ("all_words", "all_triangular")
+GENERATORS = ("all_words", "all_triangular", "all_least", "all_members", "read_steps")
 
 # For each class: its parameters, its methods with their parameters, its properties.
 CLASSES = {
@@ -119,6 +206,23 @@ CLASSES = {
     "keeping": {
         "Leaves": ("(heap, word)", ("__eq__(self, other)",), ()),
         "LeavesBy": ("(substitution, heap, word)", ("__eq__(self, other)",), ()),
+    },
+    "rests": {
+        "Strange": ("(word, heap)", ("__eq__(self, other)",), ()),
+        "Against": ("(row)", ("__eq__(self, other)",), ()),
+        "Pair": ("(first, second)", ("__eq__(self, other)",), ()),
+    },
+    "grains": {"Grain": ("(divisor, heaps)", ("__eq__(self, other)",), ())},
+    "groups": {"Outside": ("(letter, far)", ("__eq__(self, other)",), ())},
+    "orbits": {"LeastOrbit": ("(heaps, many)", ("__eq__(self, other)",), ())},
+    "readings": {
+        "Voted": ("(heap, votes, bit, rest)", ("__eq__(self, other)",), ()),
+        "Read": ("(word, wrong, against)", ("__eq__(self, other)",), ()),
+        "Far": ("(word, wrong, against)", ("__eq__(self, other)",), ()),
+        "Tie": ("(heap)", ("__eq__(self, other)",), ()),
+        "Outvoted": ("(heap, spoilt)", ("__eq__(self, other)",), ()),
+        "Nearest": ("(distance, words)", ("__eq__(self, other)",), ()),
+        "TwoNear": ("(word, lost, one, other)", ("__eq__(self, other)",), ()),
     },
 }
 
