@@ -25,16 +25,17 @@ def _check_few_letters(letters):
 def _ways(letters, word):
     """For each word of the orbit the word of which it was first made and the step; None for the word itself."""
     ways = {word: None}
-    edge = [word]
-    while edge != []:
-        further = []
-        for old in edge:
-            for step in all_steps(letters):
-                new = _word_behind(letters, old, step)
-                if new not in ways:
-                    ways[new] = (old, step)
-                    further.append(new)
-        edge = further
+    met = [word]
+    at = 0
+    # The words met grow while they are gone through, so they are taken by their index.
+    while at < len(met):
+        old = met[at]
+        at = at + 1
+        for step in all_steps(letters):
+            new = _word_behind(letters, old, step)
+            if new not in ways:
+                ways[new] = (old, step)
+                met.append(new)
     return ways
 
 

@@ -27,6 +27,7 @@ VALUE_METHODS = set(
 DOUBLE = set(
     "__init__ __eq__ __repr__ __str__ __len__ __iter__ __call__ __contains__ __enter__ __exit__".split()
 )
+CHANGING = set("append clear extend insert pop remove reverse setdefault sort update add discard".split())
 BARRED = set("register mro elements open input law version_info with_traceback add_note".split())
 BARRED_WORDS = (
     "type typing typing_extensions enum Enum IntEnum StrEnum Flag IntFlag Generic Protocol ABC ABCMeta namedtuple"
@@ -63,6 +64,71 @@ def own_names(path):
         if isinstance(node, ast.ExceptHandler) and node.name:
             found.append(node.name)
     return found
+
+
+def whole_names(value):
+    """The names that may stand for the very thing that an expression gives, not for a copy or a part of it."""
+    if isinstance(value, ast.Name):
+        return {value.id}
+    if isinstance(value, ast.IfExp):
+        return whole_names(value.body) | whole_names(value.orelse)
+    if isinstance(value, ast.BoolOp):
+        return set().union(*[whole_names(part) for part in value.values])
+    if isinstance(value, ast.NamedExpr):
+        return whole_names(value.target) | whole_names(value.value)
+    return set()
+
+
+def same_names(function, names):
+    """The names with all further ones that a function puts for them, or them for, by assignments."""
+    found = set(names)
+    pairs = [
+        whole_names(target) | whole_names(node.value)
+        for node in ast.walk(function)
+        if isinstance(node, ast.Assign)
+        for target in node.targets
+    ]
+    for _ in pairs:
+        for pair in pairs:
+            if pair & found and len(pair) > 1:
+                found |= pair
+    return found
+
+
+def walked_names(walked):
+    """The names of what a loop goes over, also through enumerate, zip, reversed, items and the like."""
+    if isinstance(walked, ast.Call) and getattr(walked.func, "id", None) in ("enumerate", "zip", "reversed", "iter"):
+        return set().union(*[walked_names(part) for part in walked.args])
+    if isinstance(walked, ast.Call) and getattr(walked.func, "attr", None) in ("items", "keys", "values"):
+        return walked_names(walked.func.value)
+    return whole_names(walked)
+
+
+def changed_names(node):
+    """The names of what is changed directly under a node."""
+    found = set()
+    for part in ast.walk(node):
+        if isinstance(part, ast.Call) and getattr(part.func, "attr", None) in CHANGING:
+            found |= whole_names(part.func.value)
+        if isinstance(part, ast.Subscript) and isinstance(part.ctx, (ast.Store, ast.Del)):
+            found |= whole_names(part.value)
+        if isinstance(part, ast.AugAssign):
+            found |= whole_names(part.target)
+    return found
+
+
+def loops_that_change_what_they_walk(tree):
+    """The lines of the loops in which what they walk is changed, by its name or by another one that it has."""
+    lines = []
+    for function in ast.walk(tree):
+        if not isinstance(function, ast.FunctionDef):
+            continue
+        for loop in ast.walk(function):
+            if isinstance(loop, ast.For):
+                walked = same_names(function, walked_names(loop.iter))
+                if any(walked & changed_names(row) for row in loop.body):
+                    lines.append(loop.lineno)
+    return lines
 
 
 def imported_names(path):
@@ -154,6 +220,27 @@ class Statements(unittest.TestCase):
                     self.assertNotIsInstance(node.iter, (ast.Set, ast.SetComp), path)
                     called = getattr(getattr(node.iter, "func", None), "id", None)
                     self.assertNotEqual(called, "set", path)
+
+    def test_no_loop_changes_what_it_walks(self):
+        for path in FILES:
+            self.assertEqual(loops_that_change_what_they_walk(ast.parse(path.read_text(encoding="utf-8"))), [], path)
+
+    def test_loops_that_change_what_they_walk_are_seen(self):
+        head = "def grown(edge, further):\n"
+        for rows in (
+            "    for old in edge:\n        edge.append(old)",
+            "    for at, old in enumerate(edge):\n        edge[at] = 0",
+            "    for old in edge:\n        further.append(old)\n    edge = further",
+            "    both = edge\n    further = both\n    for old in reversed(edge):\n        if old:\n            further += [1]",
+            "    edge = further if further else edge\n    for old in edge:\n        del further[0]",
+        ):
+            self.assertEqual(len(loops_that_change_what_they_walk(ast.parse(head + rows))), 1, rows)
+        for rows in (
+            "    for old in list(edge):\n        edge.append(old)",
+            "    for old in edge:\n        further.append(old)\n    edge = list(further)",
+            "    for old in edge:\n        further[old] = edge\n        further = further + edge",
+        ):
+            self.assertEqual(loops_that_change_what_they_walk(ast.parse(head + rows)), [], rows)
 
     def test_exponents_are_literals(self):
         for path in FILES:
