@@ -11,7 +11,7 @@ from lowerwords.heaps import (
     count_ones,
     is_whole,
 )
-from lowerwords.words import check_order, heaps_of, renamed_heap, word_of
+from lowerwords.words import check_order, heap_word, heaps_of, renamed_heap, word_of
 
 MOST_LISTED_SIZE = 12
 
@@ -43,6 +43,19 @@ def _first_outside(choice, heaps):
     return None
 
 
+def check_in_code(choice, word):
+    """The word itself, or BadWord(0), or NotInCode(heap)."""
+    outside = _first_outside(choice, heaps_of(choice.letters, word))
+    if outside is not None:
+        raise NotInCode(outside)
+    return word
+
+
+def own_words(choice):
+    """The words of the chosen heaps, in the order of these."""
+    return tuple([heap_word(choice.letters, heap) for heap in choice])
+
+
 def word_at(choice, number):
     """The word with a number: bit k tells whether the k-th chosen heap is one of its heaps."""
     check_number(number, (1 << choice.size) - 1)
@@ -51,10 +64,7 @@ def word_at(choice, number):
 
 def number_of(choice, word):
     """The number of a word of the code."""
-    heaps = heaps_of(choice.letters, word)
-    outside = _first_outside(choice, heaps)
-    if outside is not None:
-        raise NotInCode(outside)
+    heaps = heaps_of(choice.letters, check_in_code(choice, word))
     return sum([1 << index for index, heap in enumerate(choice) if heap in heaps])
 
 

@@ -1,7 +1,7 @@
 """Sums of least words, and how many words of a code have each weight."""
 
 from lowerwords.below import is_below
-from lowerwords.choices import MOST_LISTED_SIZE, Choice
+from lowerwords.choices import MOST_LISTED_SIZE, Choice, own_words
 from lowerwords.errors import NotMade, TooMany
 from lowerwords.falling import closure_of
 from lowerwords.flats import form_word
@@ -93,7 +93,6 @@ def listed_words(choice):
     if choice.size > MOST_LISTED_SIZE:
         raise TooMany(MOST_LISTED_SIZE)
     words = [0]
-    for heap in choice:
-        own = heap_word(choice.letters, heap)
+    for own in own_words(choice):
         words = words + [word ^ own for word in words]
     return tuple(words)

@@ -1,20 +1,15 @@
 """Rest codes: the words whose product with each word of a code has even weight."""
 
-from lowerwords.choices import Choice
+from lowerwords.choices import Choice, own_words
 from lowerwords.falling import check_closed, closed_by
 from lowerwords.heaps import all_heaps, all_letters, complement_of, parity_of
 from lowerwords.reduced import even_rows
-from lowerwords.words import check_word, heap_word, heaps_of
+from lowerwords.words import check_word, heaps_of
 
 
 def rest_rows(choice):
     """The reduced rows of the rest code of any choice."""
-    return even_rows(choice.letters, _own_words(choice))
-
-
-def _own_words(choice):
-    """The words of the chosen heaps."""
-    return [heap_word(choice.letters, heap) for heap in choice]
+    return even_rows(choice.letters, own_words(choice))
 
 
 def rest_of(choice):
@@ -67,7 +62,7 @@ def own_rest(choice):
 def shared_rows(choice):
     """The reduced rows of all words that are both in the code and in the rest code."""
     # What meets both the code and its rest code evenly lies in the rest code and in the rest of that, the code.
-    return even_rows(choice.letters, [*_own_words(choice), *rest_rows(choice)])
+    return even_rows(choice.letters, [*own_words(choice), *rest_rows(choice)])
 
 
 class Strange:

@@ -1,5 +1,6 @@
 """What several tests share: things that are no numbers, and slow but plain ways to the same results."""
 
+import functools
 import random
 import unittest
 
@@ -76,6 +77,7 @@ def heap_number(letters):
     return sum(2 ** letter for letter in letters)
 
 
+@functools.lru_cache(maxsize=None)
 def word_by_places(letters, heap):
     """The word of a heap, place by place."""
     return sum(2 ** place for place in range(2 ** letters) if letter_set(heap) <= letter_set(place))
@@ -93,7 +95,8 @@ def code_of(letters, heaps):
     """All words of a code, as a set."""
     words = {0}
     for heap in set(heaps):
-        words |= {word ^ word_by_places(letters, heap) for word in words}
+        own = word_by_places(letters, heap)
+        words |= {word ^ own for word in words}
     return words
 
 

@@ -175,9 +175,62 @@ FUNCTIONS = {
         "nearest_words(choice, word)",
         "two_near(choice, many=0)",
     ),
+    "lossy": (
+        "read_lossy(choice, word, lost)",
+        "sure_wrong(choice, many)",
+    ),
+    "losses": (
+        "hidden_rows(choice, lost)",
+        "told_lost(choice, lost)",
+        "hidden_fault(choice, lost, word)",
+        "fill_lost(choice, word, lost)",
+        "fits_count(choice, word, lost)",
+        "all_fits(choice, word, lost)",
+        "all_told(choice, number)",
+        "least_untold(choice)",
+        "most_told(choice)",
+    ),
+    "data": (
+        "check_bits(bits, many)",
+        "data_places(choice)",
+        "write_data(choice, bits)",
+        "bits_of(choice, word)",
+        "free_gap(choice, places)",
+        "data_gap(choice, places)",
+        "write_at(choice, places, bits)",
+    ),
+    "looks": (
+        "looks_of(choice)",
+        "failed_look(choice, word)",
+        "passing_choice(choice)",
+        "looks_gap(choice)",
+    ),
+    "messages": (
+        "write_message(choice, bits)",
+        "message_from(choice, words, lost=())",
+    ),
+    "halves": (
+        "halves_of(choice)",
+        "half_words(letters, word)",
+        "joined_words(letters, first, second)",
+        "joined_halves(first, second, *, must_fall=False)",
+        "halves_gap(first, second)",
+        "strike_word(letters, word, letter, bit)",
+        "widen_word(letters, word, letter, bit)",
+        "strike(choice, letter, bit)",
+        "shorten(choice, letter, bit)",
+    ),
 }
 
-GENERATORS = ("all_words", "all_triangular", "all_least", "all_members", "read_steps")
+GENERATORS = (
+    "all_words",
+    "all_triangular",
+    "all_least",
+    "all_members",
+    "read_steps",
+    "all_fits",
+    "least_untold",
+)
 
 # For each class: its parameters, its methods with their parameters, its properties.
 CLASSES = {
@@ -224,6 +277,22 @@ CLASSES = {
         "Nearest": ("(distance, words)", ("__eq__(self, other)",), ()),
         "TwoNear": ("(word, lost, one, other)", ("__eq__(self, other)",), ()),
     },
+    "lossy": {"Lossy": ("(word, wrong, sure)", ("__eq__(self, other)",), ())},
+    "losses": {
+        "Hidden": ("(word)", ("__eq__(self, other)",), ()),
+        "Filled": ("(word)", ("__eq__(self, other)",), ()),
+        "Many": ("(one, other)", ("__eq__(self, other)",), ()),
+        "Clash": ("(word)", ("__eq__(self, other)",), ()),
+        "Hiding": ("(lost, word)", ("__eq__(self, other)",), ()),
+        "Most": ("(number, lost)", ("__eq__(self, other)",), ()),
+    },
+    "data": {"Dependent": ("(word)", ("__eq__(self, other)",), ())},
+    "looks": {"Fails": ("(look)", ("__eq__(self, other)",), ())},
+    "messages": {
+        "Message": ("(bits, mistakes)", ("__eq__(self, other)",), ()),
+        "Broken": ("(index, what)", ("__eq__(self, other)",), ()),
+    },
+    "halves": {"HalfGap": ("(what, heap, missing)", ("__eq__(self, other)",), ())},
 }
 
 
