@@ -32,12 +32,12 @@ def check_some(choice):
 
 def holds(choice, word):
     """Whether a word is in the code."""
-    return _first_outside(choice, heaps_of(choice.letters, word)) is None
+    return heap_missing(choice, word) is None
 
 
-def _first_outside(choice, heaps):
-    """The first of the heaps that is not chosen, or None."""
-    for heap in heaps:
+def heap_missing(choice, word):
+    """The least heap of a word that is not chosen, or None."""
+    for heap in heaps_of(choice.letters, word):
         if heap not in choice:
             return heap
     return None
@@ -45,9 +45,9 @@ def _first_outside(choice, heaps):
 
 def check_in_code(choice, word):
     """The word itself, or BadWord(0), or NotInCode(heap)."""
-    outside = _first_outside(choice, heaps_of(choice.letters, word))
-    if outside is not None:
-        raise NotInCode(outside)
+    missing = heap_missing(choice, word)
+    if missing is not None:
+        raise NotInCode(missing)
     return word
 
 

@@ -40,7 +40,7 @@ def _written(choice, places, bits):
 
 def _other_places(choice, places):
     """The places that are not among these, ascending."""
-    return tuple([place for place in all_heaps(choice.letters) if place not in places])
+    return [place for place in all_heaps(choice.letters) if place not in places]
 
 
 def bits_of(choice, word):

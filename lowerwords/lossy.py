@@ -31,8 +31,7 @@ def sure_wrong(choice, many):
     check_number(many, places)
     if choice.size == 0:
         return places
-    least = least_weight(choice)
-    return -1 if many >= least else (least - many - 1) // 2
+    return max((least_weight(choice) - many - 1) // 2, -1)
 
 
 class Lossy:

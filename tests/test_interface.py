@@ -220,6 +220,35 @@ FUNCTIONS = {
         "strike(choice, letter, bit)",
         "shorten(choice, letter, bit)",
     ),
+    "products": (
+        "product_of(choice, other)",
+        "power_of(choice, times)",
+        "union_pair(choice, other, heap)",
+        "kept_in(choice, other, word)",
+        "quotient_of(choice, other)",
+    ),
+    "staircases": (
+        "all_falling(letters)",
+        "count_falling(letters)",
+        "falling_at(letters, number)",
+        "number_of_falling(choice)",
+        "next_heaps(choice)",
+    ),
+    "best": (
+        "best_choice(letters, size)",
+        "best_row(letters)",
+    ),
+    "edits": (
+        "check_edits(letters, edits)",
+        "choice_after(choice, edits)",
+        "check_goals(letters, goals)",
+        "first_unmet(choice, goals)",
+    ),
+    "mends": (
+        "find_mends(choice, pool, goals)",
+        "find_spoilers(choice, pool, goals)",
+    ),
+    "bench": ("try_edits(bench, edits, goals=())",),
 }
 
 GENERATORS = (
@@ -230,6 +259,7 @@ GENERATORS = (
     "read_steps",
     "all_fits",
     "least_untold",
+    "all_falling",
 )
 
 # For each class: its parameters, its methods with their parameters, its properties.
@@ -293,6 +323,15 @@ CLASSES = {
         "Broken": ("(index, what)", ("__eq__(self, other)",), ()),
     },
     "halves": {"HalfGap": ("(what, heap, missing)", ("__eq__(self, other)",), ())},
+    "products": {"Escapes": ("(heap, word)", ("__eq__(self, other)",), ())},
+    "best": {"Best": ("(weight, many, choice)", ("__eq__(self, other)",), ())},
+    "bench": {
+        "Bench": (
+            "(choice)",
+            ("make(self, edit)", "put_in(self, word)", "take_back(self)"),
+            ("current", "held", "log"),
+        ),
+    },
 }
 
 
