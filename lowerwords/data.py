@@ -29,10 +29,10 @@ def data_places(choice):
 
 def write_data(choice, bits):
     """The word of the code with these bits at data_places, the first bit at the lowest place."""
-    return _written(choice, data_places(choice), check_bits(bits, choice.size))
+    return _word_with(choice, data_places(choice), check_bits(bits, choice.size))
 
 
-def _written(choice, places, bits):
+def _word_with(choice, places, bits):
     """The one word of the code with these bits at ascending data places."""
     word = sum([bit << place for place, bit in zip(places, bits)])
     return fill_lost(choice, word, _other_places(choice, places)).word
@@ -67,7 +67,7 @@ def write_at(choice, places, bits):
     places = check_places(choice.letters, places)
     if data_gap(choice, places) is not None:
         raise NotData()
-    return _written(choice, places, check_bits(bits, len(places)))
+    return _word_with(choice, places, check_bits(bits, len(places)))
 
 
 class Dependent:

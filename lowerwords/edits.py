@@ -14,7 +14,7 @@ from lowerwords.words import full_word
 
 MOST_EDITS = 50
 MOST_GOALS = 10
-MOST_MEMBERS = 10 ** 9
+MOST_MEMBERS = 1000000000
 
 
 def check_edits(letters, edits):

@@ -80,7 +80,8 @@ class Bits(Case):
                 bits = [0, 1, 1, 0]
                 bits[index] = bad
                 self.assert_error(BadBits, {"index": index}, check_bits, bits, 4)
-                self.assert_error(BadBits, {"index": index}, check_bits, tuple(bits[:index + 1]) + (None,) * (3 - index), 4)
+                later = (None,) * (3 - index)
+                self.assert_error(BadBits, {"index": index}, check_bits, tuple(bits[:index + 1]) + later, 4)
 
 
 class Writing(Case):
@@ -335,7 +336,8 @@ class AllPlaces(Case):
 
     def test_what_keeps_any_code_of_two_letters(self):
         lots = [(first, second) for first in (1, 2, 3) for second in (1, 2, 3) if first != second]
-        every = [Substitution(2, tuple(zip(pair, bits))) for pair in lots for bits in itertools.product((0, 1), repeat=2)]
+        pairs = [(0, 0), (0, 1), (1, 0), (1, 1)]
+        every = [Substitution(2, tuple(zip(pair, bits))) for pair in lots for bits in pairs]
         met = 0
         for heaps in subset_sets(2):
             choice = Choice(2, heaps)

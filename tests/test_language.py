@@ -29,6 +29,10 @@ DOUBLE = set(
 )
 CHANGING = set("append clear extend insert pop remove reverse setdefault sort update add discard".split())
 BARRED = set("register mro elements open input law version_info with_traceback add_note".split())
+BARRED_BEGINNINGS = (
+    "_wall", "_pe_", "_dcw_", "_enum_", "_cm_", "_twin_re_", "_lay_", "_law_", "_stub_", "_sre", "_WallAttr", "__",
+)
+BARRED_PRIVATE = "_cold _tuplegetter _outside _record _written_out _member_names".split()
 BARRED_WORDS = (
     "type typing typing_extensions enum Enum IntEnum StrEnum Flag IntFlag Generic Protocol ABC ABCMeta namedtuple"
     " NamedTuple TypedDict TYPE_CHECKING abstractmethod _wall _WallAttr"
@@ -231,7 +235,7 @@ class Statements(unittest.TestCase):
             "    for old in edge:\n        edge.append(old)",
             "    for at, old in enumerate(edge):\n        edge[at] = 0",
             "    for old in edge:\n        further.append(old)\n    edge = further",
-            "    both = edge\n    further = both\n    for old in reversed(edge):\n        if old:\n            further += [1]",
+            "    both = edge\n    further = both\n    for old in reversed(edge):\n        further += [1]",
             "    edge = further if further else edge\n    for old in edge:\n        del further[0]",
         ):
             self.assertEqual(len(loops_that_change_what_they_walk(ast.parse(head + rows))), 1, rows)
@@ -264,11 +268,18 @@ class Names(unittest.TestCase):
                     continue
                 self.assertFalse(hasattr(builtins, name), (path, name))
                 self.assertNotIn(name, BARRED, path)
+                self.assertFalse(name.startswith(BARRED_BEGINNINGS), (path, name))
+                self.assertNotIn(name.rstrip("0123456789_"), BARRED_PRIVATE, path)
                 self.assertRegex(name, r"^_?[A-Za-z][A-Za-z0-9_]*$|^_$", path)
 
     def test_no_local_name_is_that_of_an_import(self):
         for path in FILES:
             self.assertEqual(set(own_names(path)) & set(imported_names(path)), set(), path)
+
+    def test_no_local_name_is_that_of_a_class(self):
+        for path in FILES:
+            classes = {node.name for node in nodes(path) if isinstance(node, ast.ClassDef)}
+            self.assertEqual(len([name for name in own_names(path) if name in classes]), len(classes), path)
 
     def test_builtins(self):
         for path in FILES:

@@ -39,7 +39,8 @@ def some_goals(source, letters):
     """A few goals that edits can change."""
     places = 2 ** letters
     every = [("size", source.randrange(places + 1)), ("weight", 2 ** source.randrange(letters + 1)), ("falling",)]
-    every += [("holds", source.getrandbits(places)), ("holds", 0), ("within",), ("kept", one_step(letters, letters - 1))]
+    every += [("holds", source.getrandbits(places)), ("holds", 0), ("within",)]
+    every += [("kept", one_step(letters, letters - 1))]
     every += [("told", source.sample(range(places), source.randrange(places))), ("members", 2 ** source.randrange(20))]
     return source.sample(every, source.randrange(4))
 
@@ -143,7 +144,8 @@ class Errors(Case):
                 for pool in ((), [edit], [edit] * 6):
                     for bad in NO_SEQUENCES + ([("falling",)] * 11, "falling"):
                         self.assert_error(BadGoal, {"index": 0}, call, choice, pool, bad)
-                    for bad in (None, (), ("size",), ("size", -1), ("falling", 1), ("kept", one_step(letters % 5 + 1, 0))):
+                    step = one_step(letters % 5 + 1, 0)
+                    for bad in (None, (), ("size",), ("size", -1), ("falling", 1), ("kept", step)):
                         self.assert_error(BadGoal, {"index": 1}, call, choice, pool, [("falling",), bad, None])
             self.assert_error(BadEdit, {"index": 0}, call, Choice(1, ()), [("swap", 0)], ())
 

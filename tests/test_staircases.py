@@ -7,7 +7,16 @@ from lowerwords.errors import BadLetters, BadNumber, NotClosed, NotFalling
 from lowerwords.falling import heads_of
 from lowerwords.rests import rest_of
 from lowerwords.staircases import all_falling, count_falling, falling_at, next_heaps, number_of_falling
-from tests.support import BAD_SIZES, NO_NUMBERS, SIZES, Case, descents_by_sets, falling_sets, is_falling_set, subset_sets
+from tests.support import (
+    BAD_SIZES,
+    NO_NUMBERS,
+    SIZES,
+    Case,
+    descents_by_sets,
+    falling_sets,
+    is_falling_set,
+    subset_sets,
+)
 
 MANY = {1: 3, 2: 5, 3: 10, 4: 27, 5: 119}
 

@@ -24,7 +24,6 @@ from tests.support import (
     NO_SEQUENCES,
     SIZES,
     Case,
-    chance,
     heap_number,
     letter_set,
     some_heap_sets,
